@@ -1,0 +1,1 @@
+"""Menuhouses: what a house of people takes from any menu."""
