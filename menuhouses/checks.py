@@ -1,6 +1,6 @@
 """Checks of what callers pass: names, indexes, things and menus."""
 
-from menuhouses.errors import InvalidMenu, InvalidRow, UnknownThing
+from menuhouses.errors import InvalidIndex, InvalidMenu, InvalidRow, InvalidTaken, InvalidThings, UnknownThing
 from menuhouses.limits import MOST_THINGS
 
 LETTERS = "abcdefghijklmnopqrstuvwxyz"
@@ -40,6 +40,16 @@ def first_wrong_in_row(row):
     return None
 
 
+def first_wrong_of_names(names):
+    """The index of the first value that is no name, not ascending or the eleventh, None if there is none."""
+    for at, name in enumerate(names):
+        if at >= MOST_THINGS or not is_name(name):
+            return at
+        if at > 0 and name <= names[at - 1]:
+            return at
+    return None
+
+
 def first_wrong_on_menu(menu, things):
     """The index of the first value that is none of the things or not ascending, None if there is none."""
     for at, thing in enumerate(menu):
@@ -59,6 +69,24 @@ def check_row(row):
         raise InvalidRow(wrong)
 
 
+def check_things(things):
+    """Raises InvalidThings if this is no ascending tuple of one to ten names."""
+    if not is_filled_tuple(things):
+        raise InvalidThings(None)
+    wrong = first_wrong_of_names(things)
+    if wrong is not None:
+        raise InvalidThings(wrong)
+
+
+def check_names_of_menu(menu):
+    """Raises InvalidMenu if this is no ascending tuple of one to ten names, whatever they name."""
+    if not is_filled_tuple(menu):
+        raise InvalidMenu(None)
+    wrong = first_wrong_of_names(menu)
+    if wrong is not None:
+        raise InvalidMenu(wrong)
+
+
 def check_menu(menu, things):
     """Raises InvalidMenu if this is no menu of the things."""
     if not is_filled_tuple(menu):
@@ -66,6 +94,21 @@ def check_menu(menu, things):
     wrong = first_wrong_on_menu(menu, things)
     if wrong is not None:
         raise InvalidMenu(wrong)
+
+
+def check_taken(taken, menu):
+    """Raises InvalidTaken if this is no ascending tuple of one or more things on the menu."""
+    if not is_filled_tuple(taken):
+        raise InvalidTaken(None)
+    wrong = first_wrong_on_menu(taken, menu)
+    if wrong is not None:
+        raise InvalidTaken(wrong)
+
+
+def check_index(index, many):
+    """Raises InvalidIndex if this is no integer from 0 to many less 1."""
+    if not is_index(index, many):
+        raise InvalidIndex(index)
 
 
 def check_thing(thing, things):

@@ -16,6 +16,55 @@ EXAMPLES = [
 >>> Ranking(("b", "a", "b"))
 raises InvalidRow(index=2)
 """,
+    """
+>>> from menuhouses.houses import House
+>>> two = House.read("a b c; c b a")
+>>> [two(("a", "b", "c")), two(("a", "b")), len(two), two == House.read("a b c; a c b; c b a"), House.read("a b c; c a b").within(two), two.table()]
+[('a', 'c'), ('a', 'b'), 2, True, True, 'a           1    1\\nb           0    2\\nc           1    1']
+""",
+    """
+>>> from menuhouses.houses import House
+>>> from menuhouses.rankings import Ranking
+>>> one, other = House.read("a b c; c b a"), House.read("a b c; c a b")
+>>> [(one & other) == other, len(one & other), str(one | other), Ranking.of("a", "c", "b") in one, Ranking.of("b", "a", "c") in one]
+[True, 2, 'a b c; c a b; c b a', True, False]
+""",
+    """
+>>> from menuhouses.houses import House
+>>> House.read("a b; b a") | House.read("a c; c a")
+raises OtherThings(given=('a', 'c'))
+""",
+    """
+>>> from menuhouses.comparing import crests, fewest_house, joiners, loose_crests, needless, parting_menu
+>>> from menuhouses.houses import House
+>>> two, more = House.read("a b c; c b a"), House.read("a b c; a c b; c b a")
+>>> [crests(two), str(needless(more)[0]), parting_menu(two, House.read("a b c; c a b")), parting_menu(more, two)]
+[(('a', ('b', 'c')), ('b', ('a',)), ('b', ('c',)), ('c', ('a', 'b'))), 'a c b', ('a', 'b'), None]
+>>> [joiners(two), len(fewest_house(more)), len(loose_crests(more))]
+[4, 2, 2]
+""",
+    """
+>>> from menuhouses.comparing import all_joiners, joiner
+>>> from menuhouses.houses import House
+>>> two = House.read("a b c; c b a")
+>>> [str(list(all_joiners(two))), str(list(all_joiners(two, best="c"))), str(joiner(two, 1))]
+['[Ranking a b c, Ranking a c b, Ranking c a b, Ranking c b a]', '[Ranking c a b, Ranking c b a]', 'a c b']
+""",
+    """
+>>> from menuhouses.looks import Look, Looks
+>>> seen = Looks(("a", "b", "c"), (Look.read("a+ b+ c-"),))
+>>> [seen.fit, str(seen.look(("a", "c"))), seen.answer(("b", "c"), "c"), str(seen.look(("a", "b"))), seen.can_be(("a", "c"), ("c",)), seen.settled(), seen.alone()]
+[True, 'a+ c?', 'perhaps', 'a+ b+', False, False, None]
+>>> more = seen.and_seen(Look.just(("a", "c"), ("a",)), Look.read("a- b+"))
+>>> [more.fit, more.clash(), more.fewest_back(), seen.and_seen(Look.just(("a", "c"), ("a",))).answer(("b", "c"), "c")]
+[False, (0, 2), (0,), 'perhaps']
+""",
+    """
+>>> from menuhouses.looks import Look, Looks
+>>> seen = Looks(("a", "b", "c"), (Look.read("a+ b- c-"), Look.read("a- b+")))
+>>> seen.answer(("a", "c"), "a")
+raises Clash(index=1)
+""",
 ]
 
 

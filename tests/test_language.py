@@ -20,8 +20,10 @@ LIBRARY = {
     "__future__": ["annotations"],
 }
 
+# Generator expressions are allowed, but hardly where a class has its own equality.
 NOT_ALLOWED = (
     ast.Global, ast.AsyncFunctionDef, ast.AsyncFor, ast.AsyncWith, ast.Await, ast.Import, ast.Div, ast.TryStar,
+    ast.GeneratorExp,
 )
 
 
