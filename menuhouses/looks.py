@@ -70,6 +70,11 @@ class Look:
         """The things that it looks at, ascending."""
         return self._menu
 
+    @menu.setter
+    def menu(self, value):
+        # NoHouse stores an attribute of this name, so that LANGUAGE.md (L5) asks for a setter here.
+        raise AttributeError("a look never changes")
+
     @property
     def marks(self):
         """The marks of these things, in their order."""

@@ -43,6 +43,22 @@ def nodes(kinds):
             if isinstance(node, kinds)]
 
 
+def stored():
+    """The names of all attributes that are assigned, each with its file and row."""
+    return [(node.attr, (name, node.lineno)) for name, node in nodes(ast.Attribute) if isinstance(node.ctx, ast.Store)]
+
+
+def properties():
+    """For each class that has some, the names of its properties and of those that have a setter."""
+    found = []
+    for _, node in nodes(ast.ClassDef):
+        over = [(row.name, ast.unparse(sign)) for row in node.body if isinstance(row, ast.FunctionDef)
+                for sign in row.decorator_list]
+        found.append(([name for name, sign in over if sign == "property"],
+                      [name for name, sign in over if sign == name + ".setter"]))
+    return found
+
+
 def defined(text):
     """The names that a file binds itself."""
     rows = ast.parse(text).body
@@ -94,6 +110,11 @@ class Language(unittest.TestCase):
 
     def test_statements_and_signs(self):
         self.assertEqual([(name, node) for name, node in nodes(NOT_ALLOWED)], [])
+
+    def test_properties_that_are_assigned_have_setters(self):
+        self.assertIn("menu", [name for own, _ in properties() for name in own])
+        for own, with_setter in properties():
+            self.assertEqual([each for each in stored() if each[0] in own and each[0] not in with_setter], [])
 
     def test_values(self):
         for name, node in nodes(ast.Constant):
