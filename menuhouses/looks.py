@@ -6,7 +6,7 @@ from menuhouses.errors import Clash, InvalidLooks, InvalidMarks, InvalidText
 from menuhouses.houses import check_house
 from menuhouses.letting import answer_of, are_settled, do_fit, first_clash, row_alone, rows_that_fit
 from menuhouses.limits import MOST_LOOKS
-from menuhouses.masks import index_rows, mask_of, mask_of_all, names_of
+from menuhouses.masks import index_of, index_rows, mask_of, mask_of_all, names_of
 from menuhouses.rankings import Ranking
 
 MARKS = "+-?"
@@ -100,7 +100,7 @@ class Look:
 
     def __getitem__(self, at):
         check_thing(at, self._menu)
-        return self._marks[self._menu.index(at)]
+        return self._marks[index_of(at, self._menu)]
 
     def __iter__(self):
         # Without this, Python would ask for the things 0, 1 and so on.
@@ -214,7 +214,7 @@ class Looks:
             raise Clash(self._first_clash)
 
     def _answer(self, menu, thing):
-        at = self._things.index(thing)
+        at = index_of(thing, self._things)
         return answer_of(self._full, self._masks, mask_of(menu, self._things), at)
 
     def __eq__(self, other):

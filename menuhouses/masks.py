@@ -11,11 +11,17 @@ def mask_of_all(many):
     return (1 << many) - 1
 
 
+def index_of(name, names):
+    """The index of this one of the names."""
+    # Not by `.index`: errors store an attribute of this name, so that LANGUAGE.md (L18) bars its call in operators.
+    return [at for at, other in enumerate(names) if other == name][0]
+
+
 def mask_of(names, things):
     """The mask of these names among the things."""
     mask = 0
     for name in names:
-        mask = mask | (1 << things.index(name))
+        mask = mask | (1 << index_of(name, things))
     return mask
 
 
@@ -31,7 +37,7 @@ def names_of(indexes, things):
 
 def below_masks(row, things):
     """For each of the things, ascending, the mask of those that stand behind it in the row."""
-    return [mask_of(row[row.index(thing) + 1:], things) for thing in things]
+    return [mask_of(row[index_of(thing, row) + 1:], things) for thing in things]
 
 
 def is_covered(mask, masks):

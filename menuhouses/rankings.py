@@ -2,6 +2,7 @@
 
 from menuhouses.checks import check_menu, check_row, check_thing, first_wrong_in_row, is_index, is_one_of
 from menuhouses.errors import InvalidIndex, InvalidText
+from menuhouses.masks import index_of
 
 
 class Ranking:
@@ -50,7 +51,7 @@ class Ranking:
     def place(self, thing):
         """The index of the thing in the row."""
         check_thing(thing, self._things)
-        return self._row.index(thing)
+        return index_of(thing, self._row)
 
     def without(self, *names):
         """The ranking of the other things, in the same order."""

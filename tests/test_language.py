@@ -116,6 +116,14 @@ class Language(unittest.TestCase):
         for own, with_setter in properties():
             self.assertEqual([each for each in stored() if each[0] in own and each[0] not in with_setter], [])
 
+    def test_no_method_is_called_by_a_name_that_is_stored(self):
+        # LANGUAGE.md bars this only in what operators and properties run; the package does it nowhere.
+        names = {name for name, _ in stored()}
+        self.assertIn("index", names)
+        for name, node in nodes(ast.Call):
+            if isinstance(node.func, ast.Attribute):
+                self.assertNotIn(node.func.attr, names, (name, node.lineno))
+
     def test_values(self):
         for name, node in nodes(ast.Constant):
             self.assertNotIsInstance(node.value, (float, complex), (name, node.lineno))
