@@ -40,10 +40,10 @@ def first_wrong_in_row(row):
     return None
 
 
-def first_wrong_of_names(names):
-    """The index of the first value that is no name, not ascending or the eleventh, None if there is none."""
+def first_wrong_of_names(names, most=MOST_THINGS):
+    """The index of the first value that is no name, not ascending or one more than the most, None if there is none."""
     for at, name in enumerate(names):
-        if at >= MOST_THINGS or not is_name(name):
+        if at >= most or not is_name(name):
             return at
         if at > 0 and name <= names[at - 1]:
             return at
@@ -60,6 +60,11 @@ def first_wrong_on_menu(menu, things):
     return None
 
 
+def is_menu(value, things):
+    """Whether the value is an ascending tuple of one or more of the things."""
+    return is_filled_tuple(value) and first_wrong_on_menu(value, things) is None
+
+
 def check_row(row):
     """Raises InvalidRow if this is not the row of a ranking."""
     if not is_filled_tuple(row):
@@ -69,11 +74,11 @@ def check_row(row):
         raise InvalidRow(wrong)
 
 
-def check_things(things):
-    """Raises InvalidThings if this is no ascending tuple of one to ten names."""
+def check_things(things, most=MOST_THINGS):
+    """Raises InvalidThings if this is no ascending tuple of names, of one or more and not more than the most."""
     if not is_filled_tuple(things):
         raise InvalidThings(None)
-    wrong = first_wrong_of_names(things)
+    wrong = first_wrong_of_names(things, most)
     if wrong is not None:
         raise InvalidThings(wrong)
 

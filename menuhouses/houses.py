@@ -40,6 +40,12 @@ def are_rows_of_a_house(rows):
     return all([row < later for row, later in zip(rows, rows[1:])])
 
 
+def house_of_rows(rows, things):
+    """The house of the rankings with these rows of indexes of the things."""
+    rankings = [Ranking(names_of(row, things)) for row in rows]
+    return House(*rankings)
+
+
 class House:
     """A house of one to 24 different rankings of the same things; it never changes."""
 
@@ -119,9 +125,8 @@ class House:
         foreign = dead_end(steps)
         if foreign is not None:
             raise NoHouse(names_of(indexes_of(foreign), self._things))
-        rankings = [Ranking(names_of(row, self._things)) for row in fewest_rows(steps)]
-        # There are no two equal ones: so House tells their least number, if it is too great.
-        return House(*rankings)
+        # No two of the rows are equal: so House tells their least number, if it is too great.
+        return house_of_rows(fewest_rows(steps), self._things)
 
     def __contains__(self, x):
         if not isinstance(x, Ranking) or x.things != self._things:

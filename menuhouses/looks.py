@@ -20,6 +20,11 @@ def are_marks(marks, many):
     return all([mark in MARKS for mark in marks]) and marks.count("-") < many
 
 
+def look_at_just(menu, taken):
+    """The look by which just these things are taken from the menu."""
+    return Look(menu, "".join(["+" if thing in taken else "-" for thing in menu]))
+
+
 def check_looks(looks, things):
     """Raises InvalidLooks if this is no tuple of up to twelve Looks at menus of these things."""
     if not isinstance(looks, tuple):
@@ -63,7 +68,7 @@ class Look:
         """The look by which just these things are taken from the menu."""
         check_names_of_menu(menu)
         check_taken(taken, menu)
-        return Look(menu, "".join(["+" if thing in taken else "-" for thing in menu]))
+        return look_at_just(menu, taken)
 
     @property
     def menu(self):

@@ -73,3 +73,43 @@ def assert_index(case, kind, index, action, *args, **named):
     case.assertEqual(list(kept), ["index"])
     case.assertIs(kept["index"].__class__, index.__class__)
     case.assertEqual(kept["index"], index)
+
+
+def odd_parts():
+    """Some odd values, to be put in many places."""
+    return [None, True, False, -1, 10 ** 30, "", "a", "-", b"a", (), ((),), [], {}, {"a"}, object(), Agreeable(), Unshowable()]
+
+
+def bent(value):
+    """Values that are much like this one, but for one place in it."""
+    yield from odd_parts()
+    if isinstance(value, tuple):
+        yield from bent_tuples(value)
+    elif isinstance(value, str):
+        yield from bent_texts(value)
+    elif isinstance(value, int):
+        yield from [value + 1, value - 1, -value, value == 1, str(value), (value,), [value]]
+
+
+def bent_tuples(value):
+    """Tuples with one element more or less, two exchanged or one bent, and a list."""
+    yield from [list(value), value + value, value[::-1], value + (None,), (value,), dict.fromkeys(range(len(value)))]
+    for at, part in enumerate(value):
+        yield value[:at] + value[at + 1:]
+        yield value[:at + 1] + value[at:]
+        if at > 0:
+            yield value[:at - 1] + (part, value[at - 1]) + value[at + 1:]
+        for each in bent(part):
+            yield value[:at] + (each,) + value[at + 1:]
+
+
+def bent_texts(value):
+    """Texts with one sign more or less, two exchanged or one changed, and what is no text."""
+    yield from [value + "\n", " " + value, value + " ", value.upper(), value + value, value + "; " + value, list(value),
+                tuple(value), value.encode(), value.split(" "), value[::-1], (value,), value.replace(" ", ", ")]
+    for at, sign in enumerate(value):
+        yield value[:at] + value[at + 1:]
+        yield value[:at + 1] + value[at:]
+        yield value[:at] + value[at + 1:at + 2] + sign + value[at + 2:]
+        for each in "abc+-? ;1A":
+            yield value[:at] + each + value[at + 1:]

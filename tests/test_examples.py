@@ -65,6 +65,37 @@ raises OtherThings(given=('a', 'c'))
 >>> seen.answer(("a", "c"), "a")
 raises Clash(index=1)
 """,
+    """
+>>> from menuhouses.houses import House
+>>> from menuhouses.tables import house_of, table_of
+>>> table = table_of(House.read("a b; b a"))
+>>> [table, str(house_of(("a", "b"), table))]
+[((('a',), ('a',)), (('a', 'b'), ('a', 'b')), (('b',), ('b',))), 'a b; b a']
+""",
+    """
+>>> from menuhouses.books import Book
+>>> from menuhouses.looks import Look
+>>> book = Book(("a", "b", "c"))
+>>> book[("a", "b", "c")] = ("a", "b")
+>>> book.promise("perhaps", ("b", "c"), "c")
+>>> [str(book[("a", "c")]), book.promises, book.changes, book.tried(len)]
+['a+ c?', (('perhaps', ('b', 'c'), 'c'),), 2, 1]
+>>> book.see(Look.read("b+ c-"))
+raises Broken(index=0)
+""",
+    """
+>>> from menuhouses.certificates import certify_alike, certify_answer, certify_fewest
+>>> from menuhouses.checker import accepts
+>>> from menuhouses.houses import House
+>>> from menuhouses.looks import Look, Looks
+>>> more = House.read("a b c; a c b; c b a")
+>>> seen = Looks(("a", "b", "c"), (Look.read("a+ b+ c-"),))
+>>> [certify_fewest(more)[0], certify_alike(more, House.read("a b c"))[0], certify_answer(seen, ("a", "c"), "a")[0]]
+[('fewest', 'a b c; a c b; c b a', 2), ('apart', 'a b c; a c b; c b a', 'a b c'), ('surely', ('a', 'b', 'c'), ('a+ b+ c-',), ('a', 'c'), 'a')]
+>>> claim = ("surely", ("a", "b", "c"), ("a+ b+ c-",), ("a", "c"), "a")
+>>> [accepts(claim, ((0, "a"), ("a", "b", "c"))), accepts(claim, ((0, "b"), ("a", "b", "c"))), accepts(("apart", "a b; b a", "a b"), (("a", "b"), "b"))]
+[True, False, True]
+""",
 ]
 
 

@@ -124,6 +124,21 @@ class Language(unittest.TestCase):
             if isinstance(node.func, ast.Attribute):
                 self.assertNotIn(node.func.attr, names, (name, node.lineno))
 
+    def test_objects_change_in_few_places(self):
+        # All else is run by operators and properties or could be, and these change nothing.
+        for name, text in files().items():
+            for node in ast.walk(ast.parse(text)):
+                if isinstance(node, ast.FunctionDef):
+                    changed = [each.attr for each in ast.walk(node)
+                               if isinstance(each, ast.Attribute) and not isinstance(each.ctx, ast.Load)]
+                    if node.name not in ("__init__", "__enter__", "__exit__"):
+                        self.assertIn((name, changed), [(name, []), ("books.py", ["_states"])], node.name)
+
+    def test_classes_with_indexes_are_not_iterated(self):
+        for name, node in nodes(ast.ClassDef):
+            methods = [row.name for row in node.body if isinstance(row, ast.FunctionDef)]
+            self.assertEqual("__getitem__" in methods, "__iter__" in methods, (name, node.name))
+
     def test_values(self):
         for name, node in nodes(ast.Constant):
             self.assertNotIsInstance(node.value, (float, complex), (name, node.lineno))
