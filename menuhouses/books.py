@@ -100,7 +100,7 @@ class Book:
 
     def tried(self, act):
         """What the function returns, called with the book in the rows of a trial."""
-        with self.trial() as book:
+        with Trial(self) as book:
             return act(book)
 
     def _add(self, look):

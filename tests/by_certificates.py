@@ -178,10 +178,12 @@ def shows_houses(word, one, other, certificate):
             return False
         return not taken(one, certificate) & taken(other, certificate)
     if word == "apart":
-        if not is_tuple(certificate, 2) or not is_row_of_names(certificate[0], one[0]) or type(certificate[1]) is not str:
+        if not is_tuple(certificate, 2) or not is_row_of_names(certificate[0], one[0]):
             return False
         menu, thing = certificate
-        return thing in menu and thing in taken(one, menu) and thing not in taken(other, menu)
+        if type(thing) is not str or thing not in menu:
+            return False
+        return thing in taken(one, menu) and thing not in taken(other, menu)
     if not is_tuple(certificate, 3):
         return False
     row = row_in(certificate[0])

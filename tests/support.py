@@ -77,7 +77,10 @@ def assert_index(case, kind, index, action, *args, **named):
 
 def odd_parts():
     """Some odd values, to be put in many places."""
-    return [None, True, False, -1, 10 ** 30, "", "a", "-", b"a", (), ((),), [], {}, {"a"}, object(), Agreeable(), Unshowable()]
+    return [
+        None, True, False, -1, 10 ** 30, "", "a", "-", b"a", (), ((),), [], {}, {"a"}, object(), Agreeable(),
+        Unshowable(),
+    ]
 
 
 def bent(value):

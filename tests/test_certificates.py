@@ -13,7 +13,9 @@ from menuhouses.looks import Look, Looks
 from menuhouses.rankings import Ranking
 from by_certificates import shows
 from by_looks import all_looks, answer_of, houses_that_fit
-from by_rows import OF_FEW, SOME_OF_FIVE, SOME_OF_FOUR, TEN, THREE, all_houses, fewest, house_of, is_part, some_rows, table
+from by_rows import (
+    OF_FEW, SOME_OF_FIVE, SOME_OF_FOUR, TEN, THREE, all_houses, fewest, house_of, is_part, some_rows, table,
+)
 from support import assert_index, assert_keeps, menus_of, odd_values, raised
 
 SEEN = Looks(THREE, (Look.read("a+ b+ c-"),))
@@ -47,7 +49,8 @@ class LooksShown(Shown):
     def assert_few(self, things, each):
         """Looks at up to three things, told by all houses."""
         houses = houses_that_fit(len(things), each)
-        self.assert_looks(Looks(things, each), bool(houses), lambda menu, thing: answer_of(len(things), houses, menu, thing))
+        looks = Looks(things, each)
+        self.assert_looks(looks, bool(houses), lambda menu, thing: answer_of(len(things), houses, menu, thing))
 
     def test_two_looks_at_few_things(self):
         for many in (1, 2):
@@ -85,9 +88,13 @@ class LooksShown(Shown):
                 return Look(menu, marks)
 
     def test_as_many_needs_as_can_be(self):
-        looks = Looks(TEN, (Look(TEN, "+" * 10),) * 12)
-        self.assert_looks(looks, True, looks.answer)
-        self.assertLessEqual(len(certify_looks(looks)[1]), 130)
+        for many in (9, 10):
+            looks = Looks(TEN, (Look(TEN[:many], "+" * many),) * 12)
+            self.assert_looks(looks, True, looks.answer)
+            self.assertLessEqual(len(certify_looks(looks)[1]), 130)
+            word, people = certify_answer(looks, ("i", "j"), "j")[0][0], certify_answer(looks, ("i", "j"), "j")[1]
+            self.assertEqual(word, {9: "perhaps", 10: "surely"}[many])
+            self.assertTrue(word == "surely" or all(1 <= len(each) <= 130 for each in people))
 
     def test_nothing_taken(self):
         looks = Looks(TEN, tuple(Look((thing, "j"), "-?") for thing in TEN[:9]))

@@ -95,10 +95,10 @@ class LooksOfFewThings(unittest.TestCase):
 class Houses(unittest.TestCase):
     def covers_that_there_are(self, one, other):
         """A cover of the one house in the other with the first indexes that there are, or 0 where there are none."""
-        return tuple(
-            tuple(next((at for at, each in enumerate(other) if below(row, thing) <= below(each, thing)), 0) for thing in row)
-            for row in one
-        )
+        def first(row, thing):
+            return next((at for at, each in enumerate(other) if below(row, thing) <= below(each, thing)), 0)
+
+        return tuple(tuple(first(row, thing) for thing in row) for row in one)
 
     def assert_order(self, one, other):
         """What can be shown of two houses."""

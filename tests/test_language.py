@@ -134,6 +134,12 @@ class Language(unittest.TestCase):
                     if node.name not in ("__init__", "__enter__", "__exit__"):
                         self.assertIn((name, changed), [(name, []), ("books.py", ["_states"])], node.name)
 
+    def test_no_method_is_read_off_a_class(self):
+        classes = {node.name for _, node in nodes(ast.ClassDef)}
+        for name, node in nodes(ast.Attribute):
+            if isinstance(node.value, ast.Name):
+                self.assertNotIn(node.value.id, classes, (name, node.lineno))
+
     def test_classes_with_indexes_are_not_iterated(self):
         for name, node in nodes(ast.ClassDef):
             methods = [row.name for row in node.body if isinstance(row, ast.FunctionDef)]

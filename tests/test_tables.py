@@ -9,10 +9,9 @@ from menuhouses.rankings import Ranking
 from menuhouses.tables import house_of, table_of
 from by_rows import (
     OF_FEW, SOME_OF_FIVE, SOME_OF_FOUR, TEN, THREE, all_houses, are_loose, crests, fewest, rows_in, some_rows, table,
-    taken,
 )
 from by_rows import house_of as house_of_rows
-from support import Agreeable, assert_index, assert_keeps, menus_of, odd_values, raised, rows_of
+from support import Agreeable, assert_index, assert_keeps, menus_of, odd_values, raised
 
 # All of three things, and drawn ones of four and five.
 ROWS = OF_FEW + all_houses(THREE) + SOME_OF_FOUR + SOME_OF_FIVE

@@ -22,7 +22,9 @@ class OwnBase(BaseException):
     """An error that is no Exception."""
 
 
-ERRORS = [Own, OwnBase, ValueError, KeyError, KeyboardInterrupt, SystemExit, GeneratorExit, StopIteration, AssertionError]
+ERRORS = [
+    Own, OwnBase, ValueError, KeyError, KeyboardInterrupt, SystemExit, GeneratorExit, StopIteration, AssertionError,
+]
 
 
 def told(book):
