@@ -155,7 +155,7 @@ def is_bar(value, things, looks):
 def sharpened(looks, need):
     """The looks sharpened by this need of theirs, None if it is none."""
     if need is None:
-        return looks if all([taken == () for _, taken, _ in looks]) else None
+        return looks if all([look[1] == () for look in looks]) else None
     if not is_tuple_of(need, 2) or not is_index(need[0], looks) or not is_one_of(need[1], looks[need[0]][1]):
         return None
     menu = looks[need[0]][0]
