@@ -48,7 +48,8 @@ class Look:
         check_names_of_menu(menu)
         if not are_marks(marks, len(menu)):
             raise InvalidMarks(marks)
-        self._menu = menu
+        # No property, as NoHouse stores an attribute of this name when `&` of houses raises it.
+        self.menu = menu
         self._marks = marks
 
     @classmethod
@@ -71,16 +72,6 @@ class Look:
         return look_at_just(menu, taken)
 
     @property
-    def menu(self):
-        """The things that it looks at, ascending."""
-        return self._menu
-
-    @menu.setter
-    def menu(self, value):
-        # NoHouse stores an attribute of this name, so that LANGUAGE.md (L5) asks for a setter here.
-        raise AttributeError("a look never changes")
-
-    @property
     def marks(self):
         """The marks of these things, in their order."""
         return self._marks
@@ -88,40 +79,40 @@ class Look:
     @property
     def taken(self):
         """The things marked +, ascending."""
-        return tuple([thing for thing, mark in zip(self._menu, self._marks) if mark == "+"])
+        return tuple([thing for thing, mark in zip(self.menu, self._marks) if mark == "+"])
 
     @property
     def passed(self):
         """The things marked -, ascending."""
-        return tuple([thing for thing, mark in zip(self._menu, self._marks) if mark == "-"])
+        return tuple([thing for thing, mark in zip(self.menu, self._marks) if mark == "-"])
 
     def holds(self, house):
         """Whether the house has this look."""
         check_house(house)
-        for thing in self._menu:
+        for thing in self.menu:
             check_thing(thing, house.things)
-        taken = house(self._menu)
-        return all([mark == "?" or (mark == "+") == (thing in taken) for thing, mark in zip(self._menu, self._marks)])
+        taken = house(self.menu)
+        return all([mark == "?" or (mark == "+") == (thing in taken) for thing, mark in zip(self.menu, self._marks)])
 
     def __getitem__(self, at):
-        check_thing(at, self._menu)
-        return self._marks[index_of(at, self._menu)]
+        check_thing(at, self.menu)
+        return self._marks[index_of(at, self.menu)]
 
     def __iter__(self):
         # Without this, Python would ask for the things 0, 1 and so on.
         raise TypeError("a look is not iterated over, its menu and marks are")
 
     def __len__(self):
-        return len(self._menu)
+        return len(self.menu)
 
     def __str__(self):
-        return " ".join([f"{thing}{mark}" for thing, mark in zip(self._menu, self._marks)])
+        return " ".join([f"{thing}{mark}" for thing, mark in zip(self.menu, self._marks)])
 
     def __repr__(self):
         return f"Look {self}"
 
     def __eq__(self, other):
-        return isinstance(other, Look) and self._menu == other._menu and self._marks == other._marks
+        return isinstance(other, Look) and self.menu == other.menu and self._marks == other._marks
 
 
 class Looks:

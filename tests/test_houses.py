@@ -318,6 +318,18 @@ class Both(unittest.TestCase):
             self.assertTrue((house & house) == house)
             self.assertEqual(rows_in(house | house), rows)
 
+    def test_the_menu_without_anything_in_common(self):
+        for one, other, menu in (("a b", "b a", ("a", "b")), ("c a b", "c b a", ("a", "b")),
+                                 ("a b c; b a c", "c a b; c b a", None)):
+            first, second = House.read(one), House.read(other)
+            for action in (lambda: first & second, lambda: second & first):
+                kept = raised(self, NoHouse, action)
+                self.assertEqual(list(kept), ["menu"])
+                self.assertIn(kept["menu"], menus_of(first.things))
+                self.assertEqual(set(first(kept["menu"])) & set(second(kept["menu"])), set())
+                self.assertIn(menu, (None, kept["menu"]))
+            self.assertEqual((str(first), str(second)), (one, other))
+
     def test_nothing_in_common_of_ten_things(self):
         house = House(Ranking(TEN))
         menu = raised(self, NoHouse, lambda: house & House(-Ranking(TEN)))["menu"]

@@ -48,15 +48,9 @@ def stored():
     return [(node.attr, (name, node.lineno)) for name, node in nodes(ast.Attribute) if isinstance(node.ctx, ast.Store)]
 
 
-def properties():
-    """For each class that has some, the names of its properties and of those that have a setter."""
-    found = []
-    for _, node in nodes(ast.ClassDef):
-        over = [(row.name, ast.unparse(sign)) for row in node.body if isinstance(row, ast.FunctionDef)
-                for sign in row.decorator_list]
-        found.append(([name for name, sign in over if sign == "property"],
-                      [name for name, sign in over if sign == name + ".setter"]))
-    return found
+def signs():
+    """What stands over methods: the name of the method and the decorator."""
+    return [(row.name, ast.unparse(sign)) for _, row in nodes(ast.FunctionDef) for sign in row.decorator_list]
 
 
 def defined(text):
@@ -111,10 +105,15 @@ class Language(unittest.TestCase):
     def test_statements_and_signs(self):
         self.assertEqual([(name, node) for name, node in nodes(NOT_ALLOWED)], [])
 
-    def test_properties_that_are_assigned_have_setters(self):
-        self.assertIn("menu", [name for own, _ in properties() for name in own])
-        for own, with_setter in properties():
-            self.assertEqual([each for each in stored() if each[0] in own and each[0] not in with_setter], [])
+    def test_no_property_has_the_name_of_what_is_stored(self):
+        # Operators raise errors, and these store attributes: no setter may take what an operator stores.
+        properties = [name for name, sign in signs() if sign == "property"]
+        self.assertIn("marks", properties)
+        self.assertIn("menu", [name for name, _ in stored()])
+        self.assertEqual([each for each in stored() if each[0] in properties], [])
+
+    def test_there_are_no_setters(self):
+        self.assertEqual({sign for _, sign in signs()}, {"property", "classmethod", "staticmethod"})
 
     def test_no_method_is_called_by_a_name_that_is_stored(self):
         # LANGUAGE.md bars this only in what operators and properties run; the package does it nowhere.

@@ -98,15 +98,21 @@ class MakingLooks(unittest.TestCase):
             if not isinstance(value, str):
                 assert_keeps(self, InvalidText, "given", value, Look.read, value)
 
+    def test_the_menu_is_an_attribute_of_each_look(self):
+        for look in (Look(("a", "b"), "+-"), Look.read("a+ b-"), Look.just(("a", "b"), ("a",))):
+            self.assertEqual(vars(look)["menu"], ("a", "b"))
+            self.assertEqual((look.menu, look.menu.__class__), (("a", "b"), tuple))
+        self.assertFalse(hasattr(Look, "menu"))
+
     def test_properties_are_not_assigned(self):
         look = Look.read("a+ b-")
-        for name in ("menu", "marks", "taken", "passed"):
+        for name in ("marks", "taken", "passed"):
             with self.assertRaises(AttributeError):
                 setattr(look, name, ())
         self.assert_is(look, ("a", "b"), "+-")
 
     def test_each_listed_method_stands_in_the_class(self):
-        listed = ["__init__", "read", "just", "menu", "marks", "taken", "passed", "__getitem__", "holds", "__len__",
+        listed = ["__init__", "read", "just", "marks", "taken", "passed", "__getitem__", "holds", "__len__",
                   "__str__", "__repr__", "__eq__"]
         self.assertEqual([name for name in listed if name not in vars(Look)], [])
         listed = ["__init__", "things", "looks", "fit", "and_seen", "without", "answer", "look", "can_be", "settled",
